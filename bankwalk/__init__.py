@@ -1,0 +1,1 @@
+"""Bankwalk: words dealt to banks so that walks never clash."""
