@@ -71,11 +71,18 @@ def starts(dealing, walk):
     ]
 
 
+def shifted(walk, start):
+    """The list of the walk's cells laid at this pair, whether they are words or not."""
+    return [(start[0] + p, start[1] + q) for p, q in cells_of(walk)]
+
+
+def is_start(dealing, walk, thing):
+    """Whether thing, which may be anything, is a start of the walk."""
+    return is_pair(thing) and all([is_word(dealing, word) for word in shifted(walk, thing)])
+
+
 def words_of(dealing, walk, start):
     """The list of the walk's words from this start; refused with NoStart where it isn't one."""
-    if not is_pair(start):
-        raise NoStart("a start is a pair of numbers")
-    words = [(start[0] + p, start[1] + q) for p, q in cells_of(walk)]
-    if not all([is_word(dealing, word) for word in words]):
+    if not is_start(dealing, walk, start):
         raise NoStart("from there some cell is no word of the table")
-    return words
+    return shifted(walk, start)

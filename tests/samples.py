@@ -226,3 +226,45 @@ def same_kind(one, other):
     if isinstance(one, (list, tuple)):
         return len(one) == len(other) and all(same_kind(x, y) for x, y in zip(one, other))
     return one == other
+
+
+def cells_said(walk):
+    """The walk's cells by the document."""
+    kind, *rest = walk
+    if kind == "cells":
+        return list(rest[0])
+    if kind == "block":
+        return [(p, q) for p in range(rest[0]) for q in range(rest[1])]
+    down, along = {"row": (0, 1), "column": (1, 0), "slant": (1, 1), "back": (1, -1)}.get(kind, rest[:2])
+    return [(t * down, t * along) for t in range(rest[-1])]
+
+
+def words_said(dealing, walk):
+    """For each start of the walk, as they rise, the words from there; each word is tried for the first cell."""
+    rows, columns, _ = size_said(dealing)
+    cells = cells_said(walk)
+    told = {}
+    for x, y in numbered(rows, columns).values():
+        i, j = x - cells[0][0], y - cells[0][1]
+        words = [(i + p, j + q) for p, q in cells]
+        if all(0 <= p < rows and 0 <= q < columns for p, q in words):
+            told[(i, j)] = words
+    return told
+
+
+def alike_said(things):
+    """All pairs (k, l), k below l, of numbers of things that are alike, as they rise."""
+    return [(k, l) for k in range(len(things)) for l in range(k + 1, len(things)) if things[k] == things[l]]
+
+
+def changed(thing):
+    """Things that are like thing, but for one of the numbers, tuples or lists that it bears."""
+    told = [None, True, False, "", [thing], (thing,)]
+    if isinstance(thing, (list, tuple)):
+        kind, other = (list, tuple) if isinstance(thing, list) else (tuple, list)
+        told += [other(thing), thing + kind([0]), thing + kind([None]), thing[1:], thing[:-1]] if thing else []
+        for at, part in enumerate(thing):
+            told += [thing[:at] + kind([x]) + thing[at + 1 :] for x in changed(part)]
+    elif isinstance(thing, int):
+        told += [-1 - thing, str(thing), 10**20 + thing]
+    return told

@@ -3,14 +3,21 @@
 import copy
 import unittest
 
+from bankwalk.clashes import clash, clear_starts, loads, shows_clash
 from bankwalk.dealings import bank_of, is_dealing, size_of
+from bankwalk.flips import flip_clash, flip_paper, flips, rank_of, shows_flips
 from bankwalk.places import emptied, filled, held, place_of, word_at
+from bankwalk.rests import blocks, free_steps, longest, rests_of
+from bankwalk.skews import least_skew, shows_no_skew, skew_for
 from bankwalk.walks import cells_of, is_walk, starts, words_of
-from tests.samples import DEALINGS, NO_TUPLES_OF_WORDS, WALKS, lists_in, nested, same_kind, size_said
+from tests.samples import DEALINGS, NO_TUPLES_OF_WORDS, TABLE, WALKS, lists_in, nested, same_kind, size_said
+
+MARKS = [[], [1], [1, 2], [3, 3], [7, 5, 1, 7]]
+WALK_LISTS = [[], [("row", 3)], [("row", 2), ("column", 2), ("slant", 2)], [("block", 2, 2), ("back", 3), ("row", 1)]]
 
 
-def questions():
-    """A question's def with what is handed in, for all that is told in lists or tuples."""
+def asked_of_dealings():
+    """Of each dealing, each walk of it."""
     asked = []
     for dealing in DEALINGS:
         rows, columns, _ = size_said(dealing)
@@ -19,8 +26,43 @@ def questions():
         asked += [(word_at, [dealing, 0, 0]), (word_at, [dealing, -1, 0])]
         asked += [(filled, [dealing, worths]), (emptied, [dealing, filled(dealing, worths)])]
         for walk in WALKS:
-            asked.append((starts, [dealing, walk]))
-            asked += [(words_of, [dealing, walk, start]) for start in starts(dealing, walk)[:2]]
+            asked += [(starts, [dealing, walk]), (clash, [dealing, walk]), (clear_starts, [dealing, walk])]
+            asked.append((shows_clash, [dealing, walk, clash(dealing, walk)]))
+            for start in starts(dealing, walk)[:2]:
+                asked += [(words_of, [dealing, walk, start]), (loads, [dealing, walk, start])]
+    return asked
+
+
+def asked_of_rests():
+    asked = []
+    for dealing in [dealing for dealing in DEALINGS if dealing[0] in ("skew", "rests")]:
+        asked += [(rests_of, [dealing, walk]) for walk in WALKS]
+        asked += [(longest, [dealing, 1, -2]), (blocks, [dealing]), (free_steps, [dealing, 2])]
+    return asked
+
+
+def asked_of_flips():
+    asked = []
+    for marks in MARKS:
+        asked += [(flips, [marks]), (rank_of, [marks]), (rank_of, [[0] + marks])]
+        for dealing in [("bits", 1, 2, (1, 2, 4)), ("bits", 2, 2, (9, 6)), ("bits", 0, 3, ())]:
+            asked += [(flip_clash, [dealing, marks]), (flip_paper, [dealing, marks])]
+            asked.append((shows_flips, [dealing, marks, flip_paper(dealing, marks)]))
+    return asked
+
+
+def asked_of_skews():
+    asked = []
+    for walks in WALK_LISTS:
+        asked += [(skew_for, [banks, walks]) for banks in (1, 2, 3, 5)]
+        asked += [(shows_no_skew, [banks, walks, skew_for(banks, walks)[1]]) for banks in (1, 2, 3)]
+        asked += [(least_skew, [walks, most]) for most in (0, 2, 7)]
+    return asked
+
+
+def questions():
+    """A question's def with what is handed in, for all that is told in lists or tuples."""
+    asked = asked_of_dealings() + asked_of_rests() + asked_of_flips() + asked_of_skews()
     asked += [(cells_of, [walk]) for walk in WALKS]
     for thing in DEALINGS + WALKS + NO_TUPLES_OF_WORDS:
         asked += [(is_dealing, [thing]), (is_walk, [thing])]
@@ -80,6 +122,9 @@ class WholeTests(unittest.TestCase):
             for bank, words in enumerate(held(dealing)):
                 self.assertEqual([bank_of(dealing, word) for word in words], [bank] * len(words))
                 self.assertEqual([word_at(dealing, bank, place_of(dealing, word)) for word in words], words)
+            for walk in WALKS:
+                for start in clear_starts(dealing, walk)[:9]:
+                    self.assertEqual(max(loads(dealing, walk, start)), 1)
 
     def test_things_to_twenty_deep(self):
         for depth in range(1, 20):
@@ -88,6 +133,19 @@ class WholeTests(unittest.TestCase):
                     with self.subTest(asked):
                         self.assertIs(is_dealing(asked), False)
                         self.assertIs(is_walk(asked), False)
+
+    def test_what_shows_is_asked_about_to_twenty_deep(self):
+        walks, dealing = [("row", 2)], ("bits", 1, 2, (1, 2, 4))
+        for depth in range(1, 21):
+            for thing in nested(depth):
+                with self.subTest(thing):
+                    self.assertIs(shows_clash(TABLE, ("row", 3), thing), False)
+                    self.assertIs(shows_clash(TABLE, ("row", 3), (thing, 0, 2)), False)
+                    self.assertIs(shows_clash(TABLE, ("row", 3), ((0, 0), thing, thing)), False)
+                    self.assertIs(shows_no_skew(1, walks, thing), False)
+                    self.assertIs(shows_no_skew(1, walks, [(thing, 0, 1)]), False)
+                    self.assertIs(shows_flips(dealing, [2], thing), False)
+                    self.assertIs(shows_flips(dealing, [2], [thing]), False)
 
     def test_joined_to_twenty_deep(self):
         thing = ("skew", 1, 1, 1, 0, 0)
