@@ -3,14 +3,19 @@
 import copy
 import unittest
 
+from bankwalk.anycheck import shows_least, shows_no_dealing
+from bankwalk.anyhow import dealt, least_dealt, meeting
 from bankwalk.clashes import clash, clear_starts, loads, shows_clash
 from bankwalk.dealings import bank_of, is_dealing, size_of
 from bankwalk.flips import flip_clash, flip_paper, flips, rank_of, shows_flips
+from bankwalk.maskcheck import dealing_by, shows_no_image
+from bankwalk.masks import image_for, least_bits
 from bankwalk.places import emptied, filled, held, place_of, word_at
 from bankwalk.rests import blocks, free_steps, longest, rests_of
 from bankwalk.skews import least_skew, shows_no_skew, skew_for
 from bankwalk.walks import cells_of, is_walk, starts, words_of
 from tests.samples import DEALINGS, NO_TUPLES_OF_WORDS, TABLE, WALKS, lists_in, nested, same_kind, size_said
+from tests.trees import NEED_MORE, RING, span_lists
 
 MARKS = [[], [1], [1, 2], [3, 3], [7, 5, 1, 7]]
 WALK_LISTS = [[], [("row", 3)], [("row", 2), ("column", 2), ("slant", 2)], [("block", 2, 2), ("back", 3), ("row", 1)]]
@@ -60,9 +65,34 @@ def asked_of_skews():
     return asked
 
 
+def asked_of_tables():
+    asked = []
+    for rows, columns, walks in [(2, 3, walks) for walks in WALK_LISTS] + [(1, 5, RING)]:
+        least = least_dealt(rows, columns, walks)
+        asked += [(meeting, [rows, columns, walks]), (least_dealt, [rows, columns, walks])]
+        asked.append((shows_least, [rows, columns, walks, least]))
+        for banks in (1, 2, 3, 4):
+            told = dealt(rows, columns, banks, walks)
+            asked += [(dealt, [rows, columns, banks, walks])]
+            asked.append((shows_no_dealing, [rows, columns, banks, walks, told[1]]))
+    return asked
+
+
+def asked_of_images():
+    asked = []
+    for wide, spans in span_lists()[::9] + NEED_MORE:
+        asked.append((least_bits, [wide, spans]))
+        asked.append((dealing_by, [wide - 1, 1, least_bits(wide, spans)[1]]))
+        for bits in range(4):
+            asked.append((image_for, [wide, bits, spans]))
+            asked.append((shows_no_image, [wide, bits, spans, image_for(wide, bits, spans)[1]]))
+    return asked
+
+
 def questions():
     """A question's def with what is handed in, for all that is told in lists or tuples."""
     asked = asked_of_dealings() + asked_of_rests() + asked_of_flips() + asked_of_skews()
+    asked += asked_of_tables() + asked_of_images()
     asked += [(cells_of, [walk]) for walk in WALKS]
     for thing in DEALINGS + WALKS + NO_TUPLES_OF_WORDS:
         asked += [(is_dealing, [thing]), (is_walk, [thing])]
@@ -125,6 +155,15 @@ class WholeTests(unittest.TestCase):
             for walk in WALKS:
                 for start in clear_starts(dealing, walk)[:9]:
                     self.assertEqual(max(loads(dealing, walk, start)), 1)
+        for walks in WALK_LISTS:
+            table = least_dealt(2, 3, walks)[0]
+            self.assertEqual([clear_starts(table, walk) for walk in walks], [starts(table, walk) for walk in walks])
+        for wide, spans in NEED_MORE:
+            bits, numbers, _ = least_bits(wide, spans)
+            turned = dealing_by(0, wide, numbers)
+            self.assertEqual(size_of(turned)[2], 2**bits)
+            for span in spans:
+                self.assertIs(shows_flips(turned, span, flip_paper(turned, span)), True)
 
     def test_things_to_twenty_deep(self):
         for depth in range(1, 20):
@@ -146,6 +185,31 @@ class WholeTests(unittest.TestCase):
                     self.assertIs(shows_no_skew(1, walks, [(thing, 0, 1)]), False)
                     self.assertIs(shows_flips(dealing, [2], thing), False)
                     self.assertIs(shows_flips(dealing, [2], [thing]), False)
+
+    def test_what_papers_are_asked_about_to_twenty_deep(self):
+        walks, table = [("step", 0, 2, 2)], ("table", 2, ((0, 0, 1),))
+        self.assertIs(shows_least(1, 3, walks, (table, ("words", (0, 2)))), True)
+        self.assertIs(shows_least(1, 3, walks, (table, ("cases", (((0,),),)))), True)
+        for depth in range(1, 21):
+            for thing in nested(depth):
+                with self.subTest(thing):
+                    self.assertIs(shows_no_dealing(1, 3, 2, walks, thing), False)
+                    self.assertIs(shows_no_dealing(1, 3, 2, walks, ((0, thing),)), False)
+                    self.assertIs(shows_least(1, 3, walks, thing), False)
+                    self.assertIs(shows_least(1, 3, walks, (thing, thing)), False)
+                    self.assertIs(shows_least(1, 3, walks, (table, ("words", thing))), False)
+                    self.assertIs(shows_least(1, 3, walks, (table, ("cases", thing))), False)
+                    self.assertIs(shows_least(1, 3, walks, (table, (thing, (0, 2)))), False)
+                    self.assertIs(shows_no_image(3, 1, [[4], [2]], thing), False)
+                    self.assertIs(shows_no_image(3, 1, [[4], [2]], (thing, thing)), False)
+
+    def test_trees_to_nine_deep(self):
+        tree = (0,)
+        for words in range(2, 10):
+            tree = (tree,)
+            walks = [("step", 0, words - 1, 2)]
+            self.assertIs(shows_no_dealing(1, words, 1, walks, tree), True)
+            self.assertEqual(dealt(1, words, 1, walks), ("none", tree))
 
     def test_joined_to_twenty_deep(self):
         thing = ("skew", 1, 1, 1, 0, 0)
