@@ -123,12 +123,17 @@ def bits_bank(masks, number):
     return sum([1 << t for t, mask in enumerate(masks) if odd_in_common(number, mask)])
 
 
+def parted(word, rows, columns):
+    """The word parted by a joined dealing's other table, of so many rows and columns: one's word and other's."""
+    i, j = word
+    return ((i // rows, j // columns), (i % rows, j % columns))
+
+
 def joined_bank(one, other, word):
     """The bank of a word of the table that is joined of one's and other's."""
-    i, j = word
     rows, columns, banks = size_of(other)
-    upper = bank_in(one, (i // rows, j // columns))
-    return upper * banks + bank_in(other, (i % rows, j % columns))
+    upper, lower = parted(word, rows, columns)
+    return bank_in(one, upper) * banks + bank_in(other, lower)
 
 
 def bank_in(dealing, word):

@@ -133,6 +133,13 @@ class FormTests(unittest.TestCase):
                 if isinstance(sign, (ast.Is, ast.IsNot)):
                     self.assertTrue(is_plain(beside), where)
 
+    def test_zip_and_its_kin_are_walked_on_the_spot(self):
+        for where, node in nodes(ast.Assign, ast.AugAssign, ast.Return, ast.Tuple, ast.List):
+            for value in getattr(node, "elts", None) or [getattr(node, "value", None)]:
+                deed = getattr(value, "func", None)
+                called = getattr(deed, "id", None) or getattr(deed, "attr", None)
+                self.assertNotIn(called, ("zip", "enumerate", "reversed", "range", "items", "keys", "values"), where)
+
     def test_loops_have_no_else(self):
         for where, node in nodes(ast.For, ast.While):
             self.assertEqual(node.orelse, [], where)

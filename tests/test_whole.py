@@ -7,14 +7,32 @@ from bankwalk.anycheck import shows_least, shows_no_dealing
 from bankwalk.anyhow import dealt, least_dealt, meeting
 from bankwalk.clashes import clash, clear_starts, loads, shows_clash
 from bankwalk.dealings import bank_of, is_dealing, size_of
+from bankwalk.errors import BankError, Clash, NoAsk, NoOrder, NoStart, NoWalk, NoWord
 from bankwalk.flips import flip_clash, flip_paper, flips, rank_of, shows_flips
+from bankwalk.joining import flat_table, split, spread
+from bankwalk.lanes import handed as handed_out
+from bankwalk.lanes import lanes_of, net_of
 from bankwalk.maskcheck import dealing_by, shows_no_image
 from bankwalk.masks import image_for, least_bits
+from bankwalk.nets import is_net, led, led_back, net_for
 from bankwalk.places import emptied, filled, held, place_of, word_at
+from bankwalk.player import play, steady, waits_of
 from bankwalk.rests import blocks, free_steps, longest, rests_of
 from bankwalk.skews import least_skew, shows_no_skew, skew_for
 from bankwalk.walks import cells_of, is_walk, starts, words_of
-from tests.samples import DEALINGS, NO_TUPLES_OF_WORDS, TABLE, WALKS, lists_in, nested, same_kind, size_said
+from tests.samples import (
+    DEALINGS,
+    JOINED,
+    NO_PAIRS,
+    NO_TUPLES_OF_WORDS,
+    SKEW,
+    TABLE,
+    WALKS,
+    lists_in,
+    nested,
+    same_kind,
+    size_said,
+)
 from tests.trees import NEED_MORE, RING, span_lists
 
 MARKS = [[], [1], [1, 2], [3, 3], [7, 5, 1, 7]]
@@ -89,10 +107,64 @@ def asked_of_images():
     return asked
 
 
+def asked_of_joined():
+    asked = [(flat_table, [dealing]) for dealing in DEALINGS]
+    asked += [(spread, [one, other, 16, 16]) for one in WALKS[:9] for other in WALKS[:9]]
+    return asked + [(split, [dealing, (0, 1)]) for dealing in DEALINGS if dealing[0] == "joined"]
+
+
+def asked_of_nets():
+    asked = []
+    for order in [(1, 0), (2, 0, 3, 1), (7, 1, 5, 3, 6, 0, 4, 2), tuple(k ^ 5 for k in range(16))]:
+        net, lanes = net_for(order), len(order)
+        asked += [(net_for, [order]), (is_net, [net, lanes]), (is_net, [[net], lanes])]
+        asked += [(ask, [net, [f"thing {k}" for k in range(lanes)]]) for ask in (led, led_back)]
+    return asked
+
+
+def asked_of_lanes():
+    asked = []
+    for dealing in [dealing for dealing in DEALINGS if size_said(dealing)[2] <= 16]:
+        rows, columns, _ = size_said(dealing)
+        memory = filled(dealing, list(range(rows * columns)))
+        for walk in WALKS:
+            asked += [(ask, [dealing, walk, start]) for ask in (lanes_of, net_of) for start in starts(dealing, walk)[:2]]
+            asked += [(handed_out, [dealing, walk, start, memory]) for start in clear_starts(dealing, walk)[:2]]
+    return asked
+
+
+def asked_of_player():
+    asked = []
+    for dealing in DEALINGS:
+        word, row = (0, 0), starts(dealing, ("row", 1))
+        for hold in (1, 3):
+            asked.append((play, [dealing, [[word, word], [], row[:9], [word]], hold]))
+            asked += [(steady, [dealing, walk, starts(dealing, walk)[:4], hold]) for walk in WALKS]
+        asked += [(waits_of, [dealing, walk, start]) for walk in WALKS for start in starts(dealing, walk)[:2]]
+    return asked
+
+
+def refusals():
+    """What is refused: the class, the question's def, and what is handed in."""
+    row, worths = ("row", 3), [5, 6, 7, 8, 9, 10]
+    memory = filled(TABLE, worths)
+    refused = [(NoWalk, spread, [("row", 2), ("row", 3), 1, 2])]
+    refused += [(NoOrder, net_for, [order]) for order in [[0, 1], (0, 1, 2), (0, 0), (False, True), "01", ([0], [1])]]
+    refused += [(Clash, handed_out, [TABLE, row, start, memory]) for start in ((0, 0), (1, 0))]
+    refused += [(NoAsk, play, [TABLE, [[(0, 0)], [(1, 2), thing]], 2]) for thing in NO_PAIRS + [(2, 0), (0, 3)]]
+    for thing in NO_PAIRS + [(-1, 0), (0, 3), (2, 0)]:
+        refused += [(NoWord, ask, [TABLE, thing]) for ask in (bank_of, place_of)]
+        refused += [(NoStart, ask, [TABLE, row, thing]) for ask in (words_of, loads, lanes_of, net_of, waits_of)]
+        refused.append((NoStart, handed_out, [TABLE, row, thing, memory]))
+        refused.append((NoStart, steady, [TABLE, row, [(0, 0), thing], 2]))
+    return refused
+
+
 def questions():
     """A question's def with what is handed in, for all that is told in lists or tuples."""
     asked = asked_of_dealings() + asked_of_rests() + asked_of_flips() + asked_of_skews()
-    asked += asked_of_tables() + asked_of_images()
+    asked += asked_of_tables() + asked_of_images() + asked_of_joined() + asked_of_nets()
+    asked += asked_of_lanes() + asked_of_player()
     asked += [(cells_of, [walk]) for walk in WALKS]
     for thing in DEALINGS + WALKS + NO_TUPLES_OF_WORDS:
         asked += [(is_dealing, [thing]), (is_walk, [thing])]
@@ -141,6 +213,47 @@ class WholeTests(unittest.TestCase):
             lists = lists_in(ask(*handed)) + lists_in(ask(*handed)) + lists_in(handed)
             with self.subTest(ask=ask.__name__, handed=handed):
                 self.assertEqual(len({id(some) for some in lists}), len(lists))
+
+    def test_a_refusal_changes_nothing(self):
+        for kind, ask, handed in refusals():
+            before = copy.deepcopy(handed)
+            with self.subTest(ask=ask.__name__, handed=before):
+                fields = []
+                for _ in range(2):
+                    with self.assertRaises(kind) as caught:
+                        ask(*handed)
+                    self.assertIs(type(caught.exception), kind)
+                    fields.append(vars(caught.exception))
+                    self.assertTrue(same_kind(handed, before))
+                self.assertEqual(fields[0], fields[1])
+                self.assertEqual(kind.__bases__, (BankError,))
+
+    def test_what_is_asked_behind_a_refusal_is_told_the_same(self):
+        asked = questions()[::11]
+        told = [ask(*handed) for ask, handed in asked]
+        for kind, ask, handed in refusals():
+            with self.assertRaises(kind):
+                ask(*handed)
+        for (ask, handed), before in zip(asked, told):
+            with self.subTest(ask=ask.__name__, handed=handed):
+                self.assertTrue(same_kind(ask(*handed), before))
+
+    def test_what_was_told_of_joined_ones_and_nets_may_be_handed_in_again(self):
+        for dealing in DEALINGS:
+            flat = flat_table(dealing)
+            for walk in WALKS:
+                self.assertEqual(clash(flat, walk), clash(dealing, walk))
+        walk = spread(("row", 2), ("column", 2), 3, 2)
+        self.assertEqual(len(words_of(JOINED, walk, (0, 0))), 4)
+        memory = filled(SKEW, list(range(20)))
+        for start in clear_starts(SKEW, ("row", 3)):
+            net, order = net_of(SKEW, ("row", 3), start), lanes_of(SKEW, ("row", 3), start)
+            self.assertEqual(led_back(net, led(net_for(order), list("abcdefgh"))), list("abcdefgh"))
+            self.assertEqual(memory, filled(SKEW, emptied(SKEW, memory)))
+            self.assertEqual(len(handed_out(SKEW, ("row", 3), start, memory)), 3)
+        beats, _, log = play(SKEW, [words_of(SKEW, ("row", 3), start) for start in starts(SKEW, ("row", 3))], 2)
+        again = play(SKEW, [[word for at, _, word in log if at == beat] for beat in range(beats)], 1)
+        self.assertEqual([word for _, _, word in again[2]], [word for _, _, word in log])
 
     def test_what_was_told_may_be_handed_in_again(self):
         for dealing in DEALINGS:
