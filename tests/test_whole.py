@@ -1,4 +1,4 @@
-"""[2]: what is handed in and what is told, through all files."""
+"""[1] and [2]: what is promised of the whole, and what is handed in and told, through all files."""
 
 import copy
 import unittest
@@ -7,7 +7,19 @@ from bankwalk.anycheck import shows_least, shows_no_dealing
 from bankwalk.anyhow import dealt, least_dealt, meeting
 from bankwalk.clashes import clash, clear_starts, loads, shows_clash
 from bankwalk.dealings import bank_of, is_dealing, size_of
-from bankwalk.errors import BankError, Clash, NoAsk, NoOrder, NoStart, NoWalk, NoWord
+from bankwalk.desk import told_by
+from bankwalk.errors import (
+    BadRow,
+    BadText,
+    BankError,
+    Clash,
+    NoAsk,
+    NoOrder,
+    NoStart,
+    NotSquare,
+    NoWalk,
+    NoWord,
+)
 from bankwalk.flips import flip_clash, flip_paper, flips, rank_of, shows_flips
 from bankwalk.joining import flat_table, split, spread
 from bankwalk.lanes import handed as handed_out
@@ -19,6 +31,9 @@ from bankwalk.places import emptied, filled, held, place_of, word_at
 from bankwalk.player import play, steady, waits_of
 from bankwalk.rests import blocks, free_steps, longest, rests_of
 from bankwalk.skews import least_skew, shows_no_skew, skew_for
+from bankwalk.texts import dealing_of, dealing_text, walk_of, walk_text
+from bankwalk.turncheck import shows_plan
+from bankwalk.turning import turn_plan, turned
 from bankwalk.walks import cells_of, is_walk, starts, words_of
 from tests.samples import (
     DEALINGS,
@@ -28,12 +43,33 @@ from tests.samples import (
     SKEW,
     TABLE,
     WALKS,
+    alike_said,
+    banks_said,
     lists_in,
     nested,
+    places_said,
     same_kind,
     size_said,
+    words_said,
 )
+from tests.test_player import played
+from tests.test_turning import OBLONGS, SQUARES, turned_said
 from tests.trees import NEED_MORE, RING, span_lists
+
+SHEET = """deal skew 4 4 5 1 2
+bank 1 2
+word 0 1
+clash block 2 3
+
+starts block 2 3
+rests row 4
+load 0 0 block 2 3
+net 1 0 row 3
+longest 1 1
+plan
+deal bits 0 0
+plan
+bank 0 1"""
 
 MARKS = [[], [1], [1, 2], [3, 3], [7, 5, 1, 7]]
 WALK_LISTS = [[], [("row", 3)], [("row", 2), ("column", 2), ("slant", 2)], [("block", 2, 2), ("back", 3), ("row", 1)]]
@@ -144,6 +180,24 @@ def asked_of_player():
     return asked
 
 
+def asked_of_turning():
+    asked = [(shows_plan, [dealing, thing]) for dealing in OBLONGS[:4] for thing in ([], [[(0, 1)]], None)]
+    for dealing in SQUARES:
+        plan, memory = turn_plan(dealing), filled(dealing, list(range(size_said(dealing)[0] ** 2)))
+        asked += [(turn_plan, [dealing]), (turned, [dealing, plan, memory]), (shows_plan, [dealing, plan])]
+        asked += [(turned, [dealing, [[]], memory]), (shows_plan, [dealing, plan + [[]]]), (shows_plan, [dealing, [plan]])]
+    return asked
+
+
+def asked_of_texts():
+    asked = [(told_by, [SHEET]), (told_by, ["deal bits 0 0"])]
+    for dealing in DEALINGS:
+        asked += [(dealing_text, [dealing]), (dealing_of, [dealing_text(dealing)])]
+    for walk in WALKS:
+        asked += [(walk_text, [walk]), (walk_of, [walk_text(walk)])]
+    return asked
+
+
 def refusals():
     """What is refused: the class, the question's def, and what is handed in."""
     row, worths = ("row", 3), [5, 6, 7, 8, 9, 10]
@@ -157,6 +211,10 @@ def refusals():
         refused += [(NoStart, ask, [TABLE, row, thing]) for ask in (words_of, loads, lanes_of, net_of, waits_of)]
         refused.append((NoStart, handed_out, [TABLE, row, thing, memory]))
         refused.append((NoStart, steady, [TABLE, row, [(0, 0), thing], 2]))
+    refused += [(NotSquare, turn_plan, [TABLE]), (NotSquare, turned, [TABLE, [[(0, 1)]], memory])]
+    for text in ("", "skew 1 1 0 0 0", "row 0", "joined ( bits 0 0 )", "cells 0 0 / 0 0", "skew 01 1 1 0 0"):
+        refused += [(BadText, dealing_of, [text]), (BadText, walk_of, [text])]
+    refused += [(BadRow, told_by, [text]) for text in ("", "\n", "plan", SHEET + "\nplan 1", "\n" + SHEET + "\n ")]
     return refused
 
 
@@ -164,7 +222,7 @@ def questions():
     """A question's def with what is handed in, for all that is told in lists or tuples."""
     asked = asked_of_dealings() + asked_of_rests() + asked_of_flips() + asked_of_skews()
     asked += asked_of_tables() + asked_of_images() + asked_of_joined() + asked_of_nets()
-    asked += asked_of_lanes() + asked_of_player()
+    asked += asked_of_lanes() + asked_of_player() + asked_of_turning() + asked_of_texts()
     asked += [(cells_of, [walk]) for walk in WALKS]
     for thing in DEALINGS + WALKS + NO_TUPLES_OF_WORDS:
         asked += [(is_dealing, [thing]), (is_walk, [thing])]
@@ -178,7 +236,127 @@ def spoil(thing):
         some.append("spoilt")
 
 
+class PromiseTests(unittest.TestCase):
+    """[1], sentence by sentence."""
+
+    def test_words_and_banks_with_places_are_one_to_one(self):
+        for dealing in DEALINGS + SQUARES:
+            rows, columns, banks = size_of(dealing)
+            spots = {}
+            for word in [(i, j) for i in range(rows) for j in range(columns)]:
+                bank, place = bank_of(dealing, word), place_of(dealing, word)
+                self.assertTrue(0 <= bank < banks and place >= 0)
+                self.assertNotIn((bank, place), spots)
+                spots[(bank, place)] = word
+            self.assertEqual(spots, {(banks_said(dealing)[w], p): w for w, p in places_said(dealing).items()})
+            for bank in {0, banks - 1, banks // 2}:
+                for place in range(max(place for _, place in spots) + 2):
+                    self.assertEqual(word_at(dealing, bank, place), spots.get((bank, place)))
+            self.assertEqual(sorted(word for words in held(dealing) for word in words), sorted(spots.values()))
+
+    def test_clear_walks_and_clashing_ones(self):
+        for dealing in DEALINGS + SQUARES:
+            banks = banks_said(dealing)
+            for walk in WALKS:
+                told = clash(dealing, walk)
+                with self.subTest(dealing=dealing, walk=walk):
+                    if told is None:
+                        for start, words in words_said(dealing, walk).items():
+                            self.assertEqual(alike_said([banks[word] for word in words]), [])
+                            self.assertEqual(words_of(dealing, walk, start), words)
+                    else:
+                        start, k, l = told
+                        words = words_said(dealing, walk)[start]
+                        self.assertNotEqual(words[k], words[l])
+                        self.assertEqual(banks[words[k]], banks[words[l]])
+
+    def test_clear_by_the_dealing_alone(self):
+        for dealing in [dealing for dealing in DEALINGS if dealing[0] in ("skew", "rests")]:
+            for walk in WALKS:
+                if starts(dealing, walk):
+                    unlike = len(set(rests_of(dealing, walk))) == len(rests_of(dealing, walk))
+                    self.assertEqual(clash(dealing, walk) is None, unlike)
+            for down, along in free_steps(dealing, 3)[:40]:
+                self.assertIsNone(clash(dealing, ("step", down, along, 3)))
+
+    def test_dealings_that_are_found_serve_and_papers_bar(self):
+        for walks in WALK_LISTS:
+            for banks in (1, 2, 3, 4, 5):
+                told = skew_for(banks, walks)
+                if told[0] == "skew":
+                    for walk in walks:
+                        self.assertIsNone(clash(("skew", 16, 16, banks) + told[1:], walk))
+                else:
+                    self.assertIs(shows_no_skew(banks, walks, told[1]), True)
+                told = dealt(2, 3, banks, walks)
+                if told[0] == "table":
+                    self.assertEqual([clash(told, walk) for walk in walks], [None] * len(walks))
+                else:
+                    self.assertIs(shows_no_dealing(2, 3, banks, walks, told[1]), True)
+            banks, a, b, bars = least_skew(walks, 16)
+            self.assertEqual([shows_no_skew(at + 1, walks, bar) for at, bar in enumerate(bars)], [True] * (banks - 1))
+            least = least_dealt(2, 3, walks)
+            self.assertIs(shows_least(2, 3, walks, least), True)
+            fewer = [dealt(2, 3, banks, walks)[0] for banks in range(1, least[0][1])]
+            self.assertEqual(fewer, ["none"] * (least[0][1] - 1))
+
+    def test_images_that_are_found_serve_and_papers_bar(self):
+        for wide, spans in span_lists()[::5] + NEED_MORE:
+            bits, numbers, paper = least_bits(wide, spans)
+            for span in spans:
+                self.assertIsNone(flip_clash(dealing_by(0, wide, numbers), span))
+            for fewer in range(bits):
+                self.assertIs(shows_no_image(wide, fewer, spans, image_for(wide, fewer, spans)[1]), True)
+
+    def test_nets_lead_words_to_their_banks_and_back(self):
+        for dealing in [dealing for dealing in DEALINGS + SQUARES if size_said(dealing)[2] <= 16]:
+            banks = banks_said(dealing)
+            for walk in WALKS:
+                for start in clear_starts(dealing, walk)[:5]:
+                    words, net = words_of(dealing, walk, start), net_of(dealing, walk, start)
+                    lanes = len(lanes_of(dealing, walk, start))
+                    self.assertIs(is_net(net, lanes), True)
+                    out = led(net, words + [None] * (lanes - len(words)))
+                    self.assertEqual([banks[word] for word in out if word is not None], sorted(banks[w] for w in words))
+                    self.assertEqual([out[banks[word]] for word in words], words)
+                    self.assertEqual(led_back(net, out)[: len(words)], words)
+
+    def test_waits_are_those_that_are_told(self):
+        for dealing in DEALINGS:
+            for walk in WALKS:
+                for start in starts(dealing, walk)[:2]:
+                    words = words_of(dealing, walk, start)
+                    self.assertEqual(waits_of(dealing, walk, start), played(dealing, [words], 1)[1])
+                    self.assertEqual(waits_of(dealing, walk, start) == 0, start in clear_starts(dealing, walk))
+                    self.assertEqual(steady(dealing, walk, [start, start], 2), played(dealing, [words] * 2, 2)[:2])
+
+    def test_tables_turned_in_place_are_turned(self):
+        for dealing in SQUARES:
+            worths, plan = list(range(size_said(dealing)[0] ** 2)), turn_plan(dealing)
+            self.assertIs(shows_plan(dealing, plan), True)
+            told = emptied(dealing, turned(dealing, plan, filled(dealing, worths)))
+            self.assertEqual(told, turned_said(dealing, worths))
+
+
 class WholeTests(unittest.TestCase):
+    def test_every_question_of_the_interface_is_asked(self):
+        names = """is_dealing size_of bank_of place_of word_at held filled emptied is_walk cells_of starts words_of clash
+        shows_clash loads clear_starts rests_of longest blocks free_steps flips rank_of flip_clash flip_paper shows_flips
+        skew_for shows_no_skew least_skew meeting dealt least_dealt shows_no_dealing shows_least image_for least_bits
+        shows_no_image dealing_by spread split flat_table is_net led led_back net_for lanes_of net_of handed play waits_of
+        steady turn_plan turned shows_plan dealing_text walk_text dealing_of walk_of told_by""".split()
+        self.assertEqual({ask.__name__ for ask, _ in questions()}, set(names))
+
+    def test_every_refusal_is_asked_for(self):
+        classes = {NoWord, NoStart, NoWalk, NoOrder, Clash, NotSquare, BadText, NoAsk, BadRow}
+        self.assertEqual({kind for kind, _, _ in refusals()}, classes)
+        self.assertEqual(classes, set(BankError.__subclasses__()))
+
+    def test_what_is_so_is_told_by_true_or_false(self):
+        for ask, handed in questions():
+            if ask.__name__.startswith(("is_", "shows_")):
+                self.assertIs(type(ask(*handed)), bool, ask.__name__)
+
     def test_what_is_handed_in_stays_as_it_was(self):
         for ask, handed in questions():
             before = copy.deepcopy(handed)
@@ -254,6 +432,22 @@ class WholeTests(unittest.TestCase):
         beats, _, log = play(SKEW, [words_of(SKEW, ("row", 3), start) for start in starts(SKEW, ("row", 3))], 2)
         again = play(SKEW, [[word for at, _, word in log if at == beat] for beat in range(beats)], 1)
         self.assertEqual([word for _, _, word in again[2]], [word for _, _, word in log])
+
+    def test_what_was_told_of_plans_and_texts_may_be_handed_in_again(self):
+        for dealing in SQUARES:
+            plan = turn_plan(dealing)
+            memory = filled(dealing, list(range(size_said(dealing)[0] ** 2)))
+            once = turned(dealing, plan, memory)
+            self.assertEqual(turned(dealing, plan, once), memory)
+            self.assertEqual(plan, turn_plan(dealing_of(dealing_text(dealing))))
+        for walk in WALKS:
+            again = walk_of(walk_text(walk_of(walk_text(walk))))
+            self.assertEqual(cells_of(again), cells_of(walk))
+        for dealing in DEALINGS:
+            sheet = f"deal {dealing_text(flat_table(dealing))}"
+            if len(sheet) < 3000 and size_said(dealing)[2] < 10000 and dealing[0] != "rests":
+                told = told_by(f"deal {dealing_text(dealing)}\nbank 0 0\nclash row 2\nplan")
+                self.assertEqual(told_by(f"{sheet}\nbank 0 0\nclash row 2\nplan"), told)
 
     def test_what_was_told_may_be_handed_in_again(self):
         for dealing in DEALINGS:
